@@ -1,0 +1,28 @@
+"""What differs in two states, and how often each road is crossed between them."""
+
+from lampwalks.landroads import parted
+from lampwalks.lands import check_tree
+from lampwalks.states import check_state
+
+
+def changed(land, a, b):
+    """The places whose lamps have different positions in a and b."""
+    check_state(land, a)
+    check_state(land, b)
+    return tuple([place for place in range(land.many) if a[1][place] != b[1][place]])
+
+
+def crossings(land, a, b):
+    """How often each road is crossed on the way from a to b, in the order of the roads."""
+    check_tree(land)
+    places = changed(land, a, b)
+    return tuple([_crossed(parted(land, road, a[0]), b[0], places) for road in range(len(land.roads))])
+
+
+def _crossed(far, end, places):
+    """How often a road is crossed by a walker who sees far beyond it, comes to end and changes these places."""
+    if end in far:
+        return 1
+    if any([place in far for place in places]):
+        return 2
+    return 0

@@ -1,0 +1,161 @@
+"""What several tests need: exact comparison, refusals, odd values, lands, and slow ways to find answers."""
+
+import itertools
+import unittest
+
+from lampwalks.lands import made_land
+from lampwalks.webmakers import alone, line_web, pair_web, wheel_web
+from lampwalks.webs import made_web
+
+
+def nested(deep):
+    """A tuple nested so deep."""
+    thing = ()
+    for _ in range(deep - 1):
+        thing = (thing,)
+    return thing
+
+
+def doubled(times):
+    """A tuple with one shared part that stands there 2 ** times times."""
+    thing = 0
+    for _ in range(times):
+        thing = (thing, thing)
+    return thing
+
+
+# values built from tuples, texts and numbers; none of them is a road, a lamp, a deed, or a state
+ODD = (
+    (), "", "a", "go", "turn", "ab", "abc", "1: 0 0", 0, 1, -1, 10 ** 30, -10 ** 30, (0,), (1,), (0, 0), (0, 1),
+    (0, 1, "1"), ("0", 1, 1), (0, "1", 1), (0, (1,), 1), ((0,), 1, 1), (0, 1, ()), (0, 1, 1, 1), ((0, 1, 1),),
+    ("go",), ("turn",), ("go", "0"), ("go", ()), ("go", (1,)), ("go", 1, 1), ("turn", "1"), ("turn", (0,)),
+    ("turn", 0, 0), ("Go", 1), ("goo", 1), ("", 1), ("go ", 1), (0, "go"), (1, "go"), ("mark",), ("earn", 1),
+    (("go",), 1), (("go", 1),), (("go", 1), 1), ((), ()), ("", ""), (0, ""), ("", ()),
+    nested(100), doubled(15), tuple(range(50000)), "x" * 1000,
+)
+
+
+def alike(one, other):
+    """Whether two values are equal and of the same kinds throughout: a list is no tuple, True is not 1."""
+    if type(one) is not type(other):
+        return False
+    if isinstance(one, tuple):
+        return len(one) == len(other) and all(alike(a, b) for a, b in zip(one, other))
+    return one == other
+
+
+class Case(unittest.TestCase):
+    def same(self, got, wanted):
+        self.assertTrue(alike(got, wanted), f"got {got!r}, wanted {wanted!r}")
+
+    def refuses(self, kind, what, call, *given, **named):
+        """Checks that the call raises just this kind of error, with this what."""
+        try:
+            got = call(*given, **named)
+        except ValueError as error:
+            self.assertIs(type(error), kind, f"{error!r} instead of {kind.__name__}")
+            self.same(error.what, what)
+        else:
+            self.fail(f"got {got!r}, wanted {kind.__name__}({what!r})")
+
+
+def all_apart(many, roads):
+    """The least lengths between all points, by going through each of them in turn."""
+    table = {(x, y): 0 if x == y else None for x in range(many) for y in range(many)}
+    for p, q, length in roads:
+        table[p, q] = table[q, p] = length
+    for through, x, y in itertools.product(range(many), repeat=3):
+        one, two = table[x, through], table[through, y]
+        if one is not None and two is not None and (table[x, y] is None or one + two < table[x, y]):
+            table[x, y] = one + two
+    return table
+
+
+def all_ways(many, roads, start, end):
+    """All ways from start to end that come to no point twice, as tuples of points, with their lengths."""
+    lengths = {}
+    for p, q, length in roads:
+        lengths[p, q] = lengths[q, p] = length
+    found = []
+
+    def go_on(passed, length):
+        if passed[-1] == end:
+            found.append((passed, length))
+            return
+        for x in range(many):
+            if x not in passed and (passed[-1], x) in lengths:
+                go_on(passed + (x,), length + lengths[passed[-1], x])
+
+    go_on((start,), 0)
+    return found
+
+
+def some_webs(chance, count):
+    """Webs of 1 to 6 positions with drawn roads, short ones, so that several least ways are not rare."""
+    webs = []
+    while len(webs) < count:
+        many = chance.randint(1, 6)
+        pairs = list(itertools.combinations(range(many), 2))
+        roads = tuple((p, q, chance.randint(1, 4)) for p, q in pairs if chance.random() < 0.7)
+        if None not in all_apart(many, roads).values():
+            webs.append(made_web(many, roads))
+    return webs
+
+
+def some_roads(chance, many, ring):
+    """Drawn roads of a land with so many places; with one ring if ring is True (many must be 3 or more)."""
+    lengths = {}
+    names = list(range(many))
+    chance.shuffle(names)
+    for x in range(1, many):
+        pair = tuple(sorted((names[x], names[chance.randrange(x)])))
+        lengths[pair] = chance.randint(1, 100)
+    if ring:
+        free = [pair for pair in itertools.combinations(range(many), 2) if pair not in lengths]
+        lengths[chance.choice(free)] = chance.randint(1, 100)
+    return tuple(pair + (lengths[pair],) for pair in sorted(lengths))
+
+
+def some_lands(chance, count, ring=False, most=10, lamps=None):
+    """Drawn lands, trees or with one ring, with drawn lamps."""
+    made = []
+    for _ in range(count):
+        many = chance.randint(3 if ring else 1, most)
+        webs = lamps if lamps is not None else some_webs(chance, 6)
+        made.append(made_land(many, some_roads(chance, many, ring), tuple(chance.choice(webs) for _ in range(many))))
+    return made
+
+
+def some_state(chance, land):
+    """A drawn state of the land."""
+    return chance.randrange(land.many), tuple(chance.randrange(lamp.many) for lamp in land.lamps)
+
+
+def all_states(land):
+    """All states of a land, ascending."""
+    rows = list(itertools.product(*[range(lamp.many) for lamp in land.lamps]))
+    return [(place, row) for place in range(land.many) for row in rows]
+
+
+# one place, and its lamp is alone
+SPOT = made_land(1, (), (alone(),))
+
+# examples A and B of the document: 0 - 1 - 2
+LINE = made_land(3, ((0, 1, 1), (1, 2, 1)), (pair_web(1), pair_web(1), pair_web(1)))
+
+# the land W of the document
+WEE = made_land(2, ((0, 1, 1),), (alone(), pair_web(1)))
+
+# 0, 1 and 2 hang on 3; then 3 - 4 - 6, with 5 at 4, 9 and 7 at 6, and 8 at 7
+TREE_ROADS = ((0, 3, 2), (1, 3, 5), (2, 3, 1), (3, 4, 7), (4, 5, 1), (4, 6, 100), (6, 7, 3), (6, 9, 4), (7, 8, 2))
+TREE = made_land(10, TREE_ROADS, (
+    alone(), pair_web(1), line_web(3, 2), wheel_web(4, 3), wheel_web(6, 100),
+    alone(), pair_web(7), made_web(4, ((0, 1, 1), (0, 3, 3), (1, 2, 1), (2, 3, 1))), line_web(6, 1), pair_web(100)))
+
+# the ring 1 - 4 - 2 - 6 - 1; 0 hangs at 4, and 6 - 3 - 5 - 7 hangs at 6
+RINGED_ROADS = ((0, 4, 3), (1, 4, 2), (1, 6, 5), (2, 4, 1), (2, 6, 1), (3, 5, 1), (3, 6, 4), (5, 7, 9))
+RINGED = made_land(8, RINGED_ROADS, (
+    pair_web(2), alone(), line_web(3, 1), pair_web(1), wheel_web(6, 1), alone(), pair_web(9), pair_web(1)))
+
+# the least ring
+THREE = made_land(3, ((0, 1, 1), (0, 2, 5), (1, 2, 1)), (pair_web(1), pair_web(1), alone()))

@@ -1,0 +1,57 @@
+"""The names of the interface, their parameters, and the files in which they are defined."""
+
+import importlib
+import inspect
+import unittest
+
+INTERFACE = {
+    "shares": ("share(n, d)", "plus(one, two)", "times(one, two)", "mean(shares)"),
+    "sums": ("choose(a, b)",),
+    "polynomials": ("poly_plus(one, two)", "poly_times(one, two)", "moved(poly, price)", "total(poly)",
+                    "greatest(poly)"),
+    "webs": ("made_web(m, roads)",),
+    "webmakers": ("alone()", "pair_web(length)", "line_web(m, length)", "star_web(m, length)",
+                  "wheel_web(m, length)"),
+    "webways": ("web_apart(web, p, q)", "web_next(web, p, q)"),
+    "webcounts": ("web_ways(web, p, q)", "web_inner(web, p, q)"),
+    "lands": ("made_land(n, roads, lamps)", "is_tree(land)"),
+    "landroads": ("beside(land, x)", "hull(land, places)", "beyond(land, road, x)"),
+    "landways": ("way(land, x, y)", "apart(land, x, y)"),
+    "landring": ("ring(land)",),
+    "states": ("made_state(land, place, row)", "is_state(land, thing)", "states_many(land)"),
+    "deeds": ("cost(land, state, deed)", "offers(land, state)"),
+    "done": ("done(land, state, deed)",),
+    "runs": ("walked(land, state, run)", "run_cost(land, state, run)", "turned_run(land, state, run)",
+             "run_right(land, a, run, b, price)"),
+    "crossings": ("changed(land, a, b)", "crossings(land, a, b)"),
+    "lampparts": ("lamp_part(land, a, b)",),
+}
+
+CLASSES = {
+    "errors": ("Refused", "BadSize", "BadRoad", "Parted", "BadLength", "BadLamp", "BadPlace", "BadState", "BadDeed",
+               "BadCount", "BadRow", "BadPurse", "BadWorth", "BadEnds", "NotTree", "NotRing", "TooMany", "Dear",
+               "BadText", "BadWord", "NothingToUndo", "NothingToRedo"),
+    "webs": ("Web",),
+    "lands": ("Land",),
+}
+
+
+class InterfaceTest(unittest.TestCase):
+    def test_functions(self):
+        for name, rows in INTERFACE.items():
+            module = importlib.import_module(f"lampwalks.{name}")
+            for row in rows:
+                function = getattr(module, row.partition("(")[0])
+                with self.subTest(row):
+                    self.assertTrue(inspect.isfunction(function))
+                    self.assertEqual(function.__module__, module.__name__)
+                    self.assertEqual(function.__name__ + str(inspect.signature(function)), row)
+
+    def test_classes(self):
+        for name, rows in CLASSES.items():
+            module = importlib.import_module(f"lampwalks.{name}")
+            for row in rows:
+                kind = getattr(module, row)
+                with self.subTest(row):
+                    self.assertTrue(inspect.isclass(kind))
+                    self.assertEqual(kind.__module__, module.__name__)
