@@ -15,8 +15,18 @@ def changed(land, a, b):
 def crossings(land, a, b):
     """How often each road is crossed on the way from a to b, in the order of the roads."""
     check_tree(land)
+    return crossed(land, a, b)
+
+
+def crossed(land, a, b):
+    """How often each road is crossed because it parts something; in any land, with 0 for the roads of a ring."""
     places = changed(land, a, b)
     return tuple([_crossed(parted(land, road, a[0]), b[0], places) for road in range(len(land.roads))])
+
+
+def crossed_length(land, a, b):
+    """The sum of the lengths of the roads, each as many times as it is crossed because it parts something."""
+    return sum([many * road[2] for many, road in zip(crossed(land, a, b), land.roads)])
 
 
 def _crossed(far, end, places):

@@ -1,7 +1,7 @@
 """Ways in a land, and their lengths."""
 
 from lampwalks.lands import check_tree
-from lampwalks.roads import check_place, lengths_from
+from lampwalks.roads import check_place, lengths_from, outward, path
 
 
 def way(land, x, y):
@@ -9,10 +9,7 @@ def way(land, x, y):
     check_tree(land)
     check_place(land.many, x)
     check_place(land.many, y)
-    gone = lengths_from(land.roads, x)
-    left = lengths_from(land.roads, y)
-    passed = [place for place in range(land.many) if gone[place] + left[place] == gone[y]]
-    return tuple(sorted(passed, key=lambda place: gone[place]))
+    return path(outward(land.roads, x), y)
 
 
 def apart(land, x, y):

@@ -72,3 +72,27 @@ def lengths_from(roads, x):
             for q, further in tied(roads, p):
                 heappush(queue, (length + further, q))
     return found
+
+
+def outward(roads, root):
+    """A dict that has, for each point of a tree, the pairs (point, length) that hang on it as the root sees them.
+
+    The root is the first key, and each other point stands behind the one on which it hangs.
+    """
+    found = {}
+    queue = [(root, root)]
+    while len(queue) > 0:
+        x, before = queue.pop()
+        found[x] = tuple([(y, length) for y, length in tied(roads, x) if y != before])
+        for y, length in found[x]:
+            queue.append((y, x))
+    return found
+
+
+def path(hanging, x):
+    """The points from the root to x, both with it; hanging is what outward tells."""
+    holder = {y: p for p, row in hanging.items() for y, length in row}
+    found = [x]
+    while found[-1] in holder:
+        found.append(holder[found[-1]])
+    return tuple(found[::-1])

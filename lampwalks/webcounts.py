@@ -1,27 +1,32 @@
 """How many least ways a web has, and what lies on them."""
 
 from lampwalks.roads import lengths_from
-from lampwalks.webways import check_positions, web_next
+from lampwalks.webways import check_positions, nearer
 
 
 def web_ways(web, p, q):
     """The pairs (steps, how many least ways from p to q have so many roads)."""
     check_positions(web, p, q)
+    return ways_to(web, q)[p]
+
+
+def ways_to(web, q):
+    """A dict that has, for each position, the pairs (steps, how many least ways to q have so many roads)."""
     left = lengths_from(web.roads, q)
-    counts = {q: {0: 1}}
+    found = {q: ((0, 1),)}
     # each next position is nearer to q, so its ways are counted before
     for x in sorted(left, key=lambda position: left[position])[1:]:
-        counts[x] = _ways_through([counts[y] for y in web_next(web, x, q)])
-    return tuple(sorted(counts[p].items()))
+        found[x] = _ways_through([found[y] for y in nearer(web, left, x)])
+    return found
 
 
 def _ways_through(onward):
-    """A dict of the ways by steps that begin with one road and go on as one of the dicts in onward tells."""
+    """The pairs of the ways that begin with one road and go on as one of the tuples of pairs in onward tells."""
     counts = {}
     for ways in onward:
-        for steps, many in ways.items():
+        for steps, many in ways:
             counts[steps + 1] = counts.get(steps + 1, 0) + many
-    return counts
+    return tuple(sorted(counts.items()))
 
 
 def web_inner(web, p, q):

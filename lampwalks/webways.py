@@ -18,5 +18,9 @@ def web_apart(web, p, q):
 def web_next(web, p, q):
     """The positions beside p with which a least way to q can begin."""
     check_positions(web, p, q)
-    left = lengths_from(web.roads, q)
+    return nearer(web, lengths_from(web.roads, q), p)
+
+
+def nearer(web, left, p):
+    """The positions beside p with which a least way can begin, where left has the lengths that are left."""
     return tuple([x for x, length in tied(web.roads, p) if length + left[x] == left[p]])

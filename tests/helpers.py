@@ -1,10 +1,12 @@
 """What several tests need: exact comparison, refusals, odd values, lands, and slow ways to find answers."""
 
+import heapq
 import itertools
+import time
 import unittest
 
 from lampwalks.lands import made_land
-from lampwalks.webmakers import alone, line_web, pair_web, wheel_web
+from lampwalks.webmakers import alone, line_web, pair_web, star_web, wheel_web
 from lampwalks.webs import made_web
 
 
@@ -57,6 +59,13 @@ class Case(unittest.TestCase):
             self.same(error.what, what)
         else:
             self.fail(f"got {got!r}, wanted {kind.__name__}({what!r})")
+
+    def quick(self, seconds, call, *given, **named):
+        """What the call returns, which must not take longer than so many seconds."""
+        before = time.perf_counter()
+        got = call(*given, **named)
+        self.assertLess(time.perf_counter() - before, seconds, call.__name__)
+        return got
 
 
 def all_apart(many, roads):
@@ -137,6 +146,70 @@ def all_states(land):
     return [(place, row) for place in range(land.many) for row in rows]
 
 
+def steps_from(land, state):
+    """The triples (deed, its cost, the state after it) of all deeds that are possible at a state, ascending."""
+    place, row = state
+    found = []
+    for x, y, length in land.roads:
+        if place in (x, y):
+            other = x + y - place
+            found.append((("go", other), length, (other, row)))
+    for p, q, length in land.lamps[place].roads:
+        if row[place] in (p, q):
+            other = p + q - row[place]
+            found.append((("turn", other), length, (place, row[:place] + (other,) + row[place + 1:])))
+    return sorted(found)
+
+
+def least_costs(land, start):
+    """The least costs of runs from a state to all states, by going on from the cheapest state each time."""
+    found, queue = {}, [(0, start)]
+    while queue:
+        spent, state = heapq.heappop(queue)
+        if state not in found:
+            found[state] = spent
+            for _, length, then in steps_from(land, state):
+                if then not in found:
+                    heapq.heappush(queue, (spent + length, then))
+    return found
+
+
+def least_deeds(land, left, state):
+    """The triples of steps_from that take their cost off what is left; left has the least costs to the end."""
+    return [step for step in steps_from(land, state) if step[1] + left[step[2]] == left[state]]
+
+
+def least_runs(land, left, state):
+    """All least runs from a state to the end, ascending; left has the least costs to the end."""
+    if left[state] == 0:
+        return [()]
+    return [(deed,) + run for deed, _, then in least_deeds(land, left, state) for run in least_runs(land, left, then)]
+
+
+def least_runs_many(land, left, state, known):
+    """How many least runs there are, by adding up over their first deeds; known keeps what is found."""
+    if state not in known:
+        known[state] = 1 if left[state] == 0 else sum(
+            least_runs_many(land, left, then, known) for _, _, then in least_deeds(land, left, state))
+    return known[state]
+
+
+def some_end(chance, land, a):
+    """A drawn state in which some of the lamps are as in a."""
+    b = some_state(chance, land)
+    keep = chance.choice((0.0, 0.3, 0.7, 1.0))
+    place = a[0] if chance.random() < 0.3 else b[0]
+    return place, tuple(p if chance.random() < keep else q for p, q in zip(a[1], b[1]))
+
+
+# a web in which the two least ways from 0 to 3 have 1 and 3 roads
+UNLIKE = made_web(4, ((0, 1, 1), (0, 3, 3), (1, 2, 1), (2, 3, 1)))
+
+# a web in which the least ways from 0 to 4 have 2, 3 and 3 roads, and those from 0 to 5 have 1, 3, 4 and 4
+MANY_WAYS = made_web(6, ((0, 1, 1), (0, 2, 2), (0, 5, 5), (1, 2, 1), (1, 3, 2), (2, 4, 2), (3, 4, 1), (4, 5, 1)))
+
+SMALL_WEBS = (alone(), alone(), pair_web(1), pair_web(2), line_web(3, 1), wheel_web(4, 1), UNLIKE)
+
 # one place, and its lamp is alone
 SPOT = made_land(1, (), (alone(),))
 
@@ -150,7 +223,7 @@ WEE = made_land(2, ((0, 1, 1),), (alone(), pair_web(1)))
 TREE_ROADS = ((0, 3, 2), (1, 3, 5), (2, 3, 1), (3, 4, 7), (4, 5, 1), (4, 6, 100), (6, 7, 3), (6, 9, 4), (7, 8, 2))
 TREE = made_land(10, TREE_ROADS, (
     alone(), pair_web(1), line_web(3, 2), wheel_web(4, 3), wheel_web(6, 100),
-    alone(), pair_web(7), made_web(4, ((0, 1, 1), (0, 3, 3), (1, 2, 1), (2, 3, 1))), line_web(6, 1), pair_web(100)))
+    alone(), pair_web(7), UNLIKE, line_web(6, 1), pair_web(100)))
 
 # the ring 1 - 4 - 2 - 6 - 1; 0 hangs at 4, and 6 - 3 - 5 - 7 hangs at 6
 RINGED_ROADS = ((0, 4, 3), (1, 4, 2), (1, 6, 5), (2, 4, 1), (2, 6, 1), (3, 5, 1), (3, 6, 4), (5, 7, 9))
@@ -159,3 +232,11 @@ RINGED = made_land(8, RINGED_ROADS, (
 
 # the least ring
 THREE = made_land(3, ((0, 1, 1), (0, 2, 5), (1, 2, 1)), (pair_web(1), pair_web(1), alone()))
+
+# the ring of four places of the document
+FOUR = made_land(4, ((0, 1, 1), (0, 3, 1), (1, 2, 1), (2, 3, 1)), (pair_web(1),) * 4)
+
+# ten places with lamps of six positions: a star, a line, and a tree between the two
+WIDE = made_land(10, tuple((0, x, x) for x in range(1, 10)), (MANY_WAYS,) * 10)
+LONG = made_land(10, tuple((x, x + 1, 100) for x in range(9)), (line_web(6, 100),) * 10)
+BUSHY = made_land(10, TREE_ROADS, (MANY_WAYS, wheel_web(6, 1), star_web(6, 9), line_web(6, 3), MANY_WAYS) * 2)

@@ -1,9 +1,6 @@
-import heapq
 import random
 
 from lampwalks.crossings import changed, crossings
-from lampwalks.deeds import cost, offers
-from lampwalks.done import done
 from lampwalks.errors import BadPlace, BadState, NotTree
 from lampwalks.lampparts import lamp_part
 from lampwalks.lands import made_land
@@ -11,7 +8,7 @@ from lampwalks.webmakers import alone, line_web, pair_web, star_web
 from lampwalks.webs import made_web
 from tests.helpers import (
     LINE, RINGED, RINGED_ROADS, SPOT, THREE, TREE, TREE_ROADS, WEE, Case, all_apart, all_states, all_ways,
-    some_lands, some_state)
+    least_costs, some_lands, some_state)
 
 FAR = 10 ** 30
 ZERO = (0,) * 10
@@ -21,18 +18,6 @@ SIX = made_land(1, (), (star_web(6, 9),))
 def row_of(many, **positions):
     """A row of zeros, but for the lamps named as p3=1."""
     return tuple(positions.get(f"p{x}", 0) for x in range(many))
-
-
-def least_costs(land, start):
-    """The least costs of runs to all states, by going through the states."""
-    found, queue = {}, [(0, start)]
-    while queue:
-        spent, state = heapq.heappop(queue)
-        if state not in found:
-            found[state] = spent
-            for deed in offers(land, state):
-                heapq.heappush(queue, (spent + cost(land, state, deed), done(land, state, deed)))
-    return found
 
 
 class ChangedTest(Case):

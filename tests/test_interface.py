@@ -25,6 +25,16 @@ INTERFACE = {
              "run_right(land, a, run, b, price)"),
     "crossings": ("changed(land, a, b)", "crossings(land, a, b)"),
     "lampparts": ("lamp_part(land, a, b)",),
+    "prices": ("price(land, a, b)",),
+    "roadways": ("road_part(land, a, b)", "two_ways(land, a, b)"),
+    "leastruns": ("least_run(land, a, b)", "lessening(land, a, b)"),
+    "runcounts": ("runs_many(land, a, b)", "steps_many(land, a, b)", "pass_share(land, a, x, b)"),
+    "nthruns": ("nth_run(land, a, b, k)",),
+    "waiting": ("waiting(land, a, b, weights)", "waiting_run(land, a, b, weights)",
+                "waiting_of(land, a, run, weights)"),
+    "ringlands": ("hung(land, x)", "ring_needs(land, a, b)"),
+    "ringgaps": ("ring_choices(land, a, b)",),
+    "ringprices": ("ring_best(land, a, b)",),
 }
 
 CLASSES = {
