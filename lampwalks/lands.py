@@ -1,10 +1,11 @@
 """Lands: places tied by roads, with a lamp at each place."""
 
-from lampwalks.errors import BadLamp, BadSize, NotTree
+from lampwalks.errors import BadLamp, BadSize, NotTree, TooMany
 from lampwalks.roads import check_roads, check_together
 from lampwalks.webs import Web
 
 MOST_PLACES = 10
+FEW_PLACES = 6
 
 
 class Land:
@@ -50,3 +51,9 @@ def check_tree(land):
     """Raises NotTree if the land has a ring."""
     if not is_tree(land):
         raise NotTree(0)
+
+
+def check_few(land):
+    """Raises TooMany for a land of more than 6 places."""
+    if land.many > FEW_PLACES:
+        raise TooMany(land.many)

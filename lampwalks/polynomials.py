@@ -23,10 +23,23 @@ def poly_times(one, two):
     products = len(one) * len(two)
     if products > MOST_PRODUCTS:
         raise TooMany(products)
+    return product_of(one, two)
+
+
+def product_of(one, two):
+    """The product of two polynomials with any number of pairs."""
     counts = {}
     for price, many in one:
         for further, factor in two:
             counts[price + further] = counts.get(price + further, 0) + many * factor
+    return _polynomial(counts)
+
+
+def tallied(prices):
+    """The polynomial that has each price as many times as it stands among the prices."""
+    counts = {}
+    for price in prices:
+        counts[price] = counts.get(price, 0) + 1
     return _polynomial(counts)
 
 

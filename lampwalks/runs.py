@@ -9,6 +9,12 @@ from lampwalks.states import check_state, is_state
 MOST_DEEDS = 2000
 
 
+def check_many(run):
+    """Raises TooMany for more deeds than a run can have."""
+    if len(run) > MOST_DEEDS:
+        raise TooMany(len(run))
+
+
 def _gone(land, state, run):
     """Does the deeds until one is refused. Gives the states come to, from the first one on, and what refused it."""
     states = [state]
@@ -23,8 +29,7 @@ def _gone(land, state, run):
 def _states_of(land, state, run):
     """The states that a run comes to, the first and the last one among them, where all is right with it."""
     check_state(land, state)
-    if len(run) > MOST_DEEDS:
-        raise TooMany(len(run))
+    check_many(run)
     states, which = _gone(land, state, run)
     if which is not None:
         raise BadDeed((len(states) - 1, which))

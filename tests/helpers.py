@@ -2,6 +2,7 @@
 
 import heapq
 import itertools
+import math
 import time
 import unittest
 
@@ -192,6 +193,23 @@ def least_runs_many(land, left, state, known):
         known[state] = 1 if left[state] == 0 else sum(
             least_runs_many(land, left, then, known) for _, _, then in least_deeds(land, left, state))
     return known[state]
+
+
+def tally(prices):
+    """The pairs (price, how often it stands there), ascending."""
+    prices = list(prices)
+    return tuple((price, prices.count(price)) for price in sorted(set(prices)))
+
+
+def small_trees(chance, count, states):
+    """Drawn trees with at most so many states: some of few places, some of up to ten with lamps mostly alone."""
+    made = []
+    while len(made) < count:
+        most, lamps = chance.choice(((4, SMALL_WEBS), (10, (alone(), alone(), alone(), pair_web(1), pair_web(3)))))
+        (land,) = some_lands(chance, 1, most=most, lamps=lamps)
+        if land.many * math.prod(lamp.many for lamp in land.lamps) <= states:
+            made.append(land)
+    return made
 
 
 def some_end(chance, land, a):
