@@ -9,7 +9,12 @@ def changed(land, a, b):
     """The places whose lamps have different positions in a and b."""
     check_state(land, a)
     check_state(land, b)
-    return tuple([place for place in range(land.many) if a[1][place] != b[1][place]])
+    return differing(a[1], b[1])
+
+
+def differing(one, two):
+    """The places whose lamps have different positions in two rows."""
+    return tuple([place for place in range(len(one)) if one[place] != two[place]])
 
 
 def crossings(land, a, b):

@@ -16,22 +16,34 @@ def hull(land, places):
     check_tree(land)
     for x in places:
         check_place(land.many, x)
-    if len(places) == 0:
-        return ()
-    return tuple([i for i in range(len(land.roads)) if _parts(land, i, places)])
+    return _hull_of(far_sides(land), places)
 
 
-def _parts(land, road, places):
-    """Whether the road parts two of the places: then it parts the first one from some other one."""
-    far = parted(land, road, places[0])
-    return any([x in far for x in places])
+def far_sides(land):
+    """For each road of a tree the places that it parts from place 0."""
+    return [parted(land, road, 0) for road in range(len(land.roads))]
+
+
+def _hull_of(sides, places):
+    """The indexes of the roads that part two of the places; sides is what far_sides tells."""
+    return tuple([i for i, far in enumerate(sides) if 0 < len([x for x in places if x in far]) < len(places)])
+
+
+def hull_length(land, sides, places):
+    """The sum of the lengths of the roads that part two of the places; sides is what far_sides tells."""
+    return sum([land.roads[i][2] for i in _hull_of(sides, places)])
+
+
+def check_road(land, road):
+    """Raises BadRoad unless road is the index of a road."""
+    if not 0 <= road < len(land.roads):
+        raise BadRoad(road)
 
 
 def beyond(land, road, x):
     """The places that the road parts from x."""
     check_tree(land)
-    if not 0 <= road < len(land.roads):
-        raise BadRoad(road)
+    check_road(land, road)
     check_place(land.many, x)
     return parted(land, road, x)
 

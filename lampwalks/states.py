@@ -48,7 +48,12 @@ def _is_index(thing, many):
 
 def states_many(land):
     """The number of all states."""
-    many = land.many
-    for lamp in land.lamps:
-        many = many * lamp.many
+    return land.many * rows_many(land, tuple(range(land.many)))
+
+
+def rows_many(land, places):
+    """The number of all ways to choose positions for the lamps of these places."""
+    many = 1
+    for x in places:
+        many = many * land.lamps[x].many
     return many

@@ -162,6 +162,15 @@ def steps_from(land, state):
     return sorted(found)
 
 
+def led(land, state, run):
+    """The state after the run and its cost, deed by deed; each deed must be one that is possible where it stands."""
+    spent = 0
+    for deed in run:
+        ((length, state),) = [(length, then) for told, length, then in steps_from(land, state) if told == deed]
+        spent += length
+    return state, spent
+
+
 def least_costs(land, start):
     """The least costs of runs from a state to all states, by going on from the cheapest state each time."""
     found, queue = {}, [(0, start)]
@@ -220,6 +229,49 @@ def some_end(chance, land, a):
     return place, tuple(p if chance.random() < keep else q for p, q in zip(a[1], b[1]))
 
 
+def some_row(chance, land, row):
+    """A drawn row in which some of the lamps are as in this row."""
+    return some_end(chance, land, (0, row))[1]
+
+
+def way_of(land, x, y):
+    """The only way from x to y in a tree, as a tuple of places."""
+    ((passed, _),) = all_ways(land.many, land.roads, x, y)
+    return passed
+
+
+def on_way(land, road, x, y):
+    """Whether the road with this index lies on the way from x to y."""
+    return tuple(sorted(land.roads[road][:2])) in {tuple(sorted(pair)) for pair in itertools.pairwise(way_of(land, x, y))}
+
+
+def crossings_of(land, a, b, road):
+    """How often a road of a tree is crossed from a to b, as the document words it."""
+    if on_way(land, road, a[0], b[0]):
+        return 1
+    places = [x for x in range(land.many) if a[1][x] != b[1][x]]
+    return 2 if any(on_way(land, road, a[0], x) for x in places) else 0
+
+
+def all_sets(land, a, wish, worths, back):
+    """The triples (price, worth, set) of all sets of unlike places, with the prices found by search."""
+    costs = least_costs(land, a)
+    unlike = [x for x in range(land.many) if a[1][x] != wish[x]]
+    found = []
+    for size in range(len(unlike) + 1):
+        for places in itertools.combinations(unlike, size):
+            row = tuple(wish[x] if x in places else a[1][x] for x in range(land.many))
+            ends = [a[0]] if back else range(land.many)
+            found.append((min(costs[y, row] for y in ends), sum(worths[x] for x in places), places))
+    return found
+
+
+def some_worths(chance, many):
+    """Drawn worths; alike ones, 0 and 1000 are not rare."""
+    most = chance.choice((0, 1, 3, 10, 1000))
+    return tuple(chance.choice((0, most, chance.randint(0, most), chance.randint(0, most))) for _ in range(many))
+
+
 # a web in which the two least ways from 0 to 3 have 1 and 3 roads
 UNLIKE = made_web(4, ((0, 1, 1), (0, 3, 3), (1, 2, 1), (2, 3, 1)))
 
@@ -233,6 +285,9 @@ SPOT = made_land(1, (), (alone(),))
 
 # examples A and B of the document: 0 - 1 - 2
 LINE = made_land(3, ((0, 1, 1), (1, 2, 1)), (pair_web(1), pair_web(1), pair_web(1)))
+
+# the land of [28]: three places that hang on place 0
+STAR = made_land(4, ((0, 1, 1), (0, 2, 1), (0, 3, 1)), (alone(), pair_web(1), pair_web(1), pair_web(1)))
 
 # the land W of the document
 WEE = made_land(2, ((0, 1, 1),), (alone(), pair_web(1)))

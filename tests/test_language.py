@@ -19,17 +19,20 @@ BUILTINS = (
     "len range enumerate zip min max sum abs sorted reversed int str bool list tuple dict set isinstance ord repr any "
     "all divmod Exception ValueError TypeError KeyError IndexError LookupError ZeroDivisionError").split()
 METHODS = (
-    "append clear copy count endswith extend find get index insert isalnum isalpha isdigit islower isspace isupper "
+    "append clear copy count endswith extend find get index insert isalnum isalpha isascii isdigit islower isspace isupper "
     "items join keys ljust lower lstrip partition pop remove replace reverse rfind rjust rpartition rsplit rstrip "
     "setdefault split splitlines startswith strip update upper values zfill bit_length add discard").split()
+OWN_METHODS = [item.name for tree in TREES.values() for node in tree.body if isinstance(node, ast.ClassDef)
+               for item in node.body if isinstance(item, ast.FunctionDef)]
 NODES = (
     "Module Expr Constant ImportFrom alias Assign AugAssign FunctionDef arguments arg ClassDef Return If While For "
     "Break Continue Pass Raise Assert Delete Try ExceptHandler Name Attribute Subscript Slice Call keyword Starred "
     "List Tuple Dict Set ListComp DictComp SetComp comprehension BinOp UnaryOp BoolOp Compare IfExp Lambda Load Store "
-    "Del Add Sub Mult FloorDiv Mod Pow BitAnd BitOr BitXor LShift RShift USub UAdd Invert Not And Or Eq NotEq Lt LtE "
+    "JoinedStr FormattedValue Del Add Sub Mult FloorDiv Mod Pow BitAnd BitOr BitXor LShift RShift USub UAdd Invert Not And Or Eq NotEq Lt LtE "
     "Gt GtE Is IsNot In NotIn").split()
 WORDS = ("register mro elements open input law version_info with_traceback add_note typing enum Enum namedtuple "
-         "dataclass overload contextmanager _wall _WallAttr").split()
+         "dataclass overload contextmanager _wall _WallAttr _cold _outside _record _written_out "
+         "_member_names").split()
 
 
 def nodes(kind):
@@ -47,6 +50,17 @@ def bound_names(tree):
             found.append(node.arg)
         elif isinstance(node, ast.Name) and isinstance(node.ctx, ast.Store):
             found.append(node.id)
+    return found
+
+
+def defined_names(tree):
+    """The names of the functions, classes and values that a file defines at its module level."""
+    found = []
+    for node in tree.body:
+        if isinstance(node, (ast.FunctionDef, ast.ClassDef)):
+            found.append(node.name)
+        elif isinstance(node, ast.Assign):
+            found.extend(target.id for target in node.targets)
     return found
 
 
@@ -77,7 +91,11 @@ class FilesTest(unittest.TestCase):
         for name, text in FILES.items():
             for word in WORDS:
                 self.assertNotRegex(text, rf"\b{word}\b", name)
-            self.assertNotIn("%", text)
+
+    def test_no_percent_sign_in_a_string(self):
+        for name, node in nodes(ast.Constant):
+            if isinstance(node.value, str):
+                self.assertNotIn("%", node.value, name)
 
 
 class ImportsTest(unittest.TestCase):
@@ -89,8 +107,7 @@ class ImportsTest(unittest.TestCase):
                     continue
                 folder, _, home = module.partition(".")
                 self.assertEqual(folder, "lampwalks", name)
-                own = [node.name for node in TREES[home].body if isinstance(node, (ast.FunctionDef, ast.ClassDef))]
-                self.assertIn(word, own, f"{name} imports {word} from {home}")
+                self.assertIn(word, defined_names(TREES[home]), f"{name} imports {word} from {home}")
 
     def test_form(self):
         for name, node in nodes(ast.ImportFrom):
@@ -139,7 +156,7 @@ class CodeTest(unittest.TestCase):
         for name, tree in TREES.items():
             for word in bound_names(tree):
                 self.assertNotIn(word, dir(builtins), name)
-                self.assertTrue(re.match(r"_?[A-Za-z][A-Za-z0-9_]*$|__(init|eq)__$", word), f"{name}: {word}")
+                self.assertTrue(re.match(r"_?[A-Za-z][A-Za-z0-9_]*$|_$|__(init|eq)__$", word), f"{name}: {word}")
 
     def test_builtins(self):
         for name, tree in TREES.items():
@@ -151,7 +168,15 @@ class CodeTest(unittest.TestCase):
     def test_methods(self):
         for name, node in nodes(ast.Call):
             if isinstance(node.func, ast.Attribute):
-                self.assertIn(node.func.attr, METHODS, f"{name}, line {node.lineno}")
+                self.assertIn(node.func.attr, METHODS + OWN_METHODS, f"{name}, line {node.lineno}")
+
+    def test_no_name_is_a_method_and_an_attribute(self):
+        assigned = [node.attr for _, node in nodes(ast.Attribute) if isinstance(node.ctx, ast.Store)]
+        read = [node.attr for _, node in nodes(ast.Attribute)]
+        for name in OWN_METHODS:
+            self.assertNotIn(name, assigned)
+        for name in read:
+            self.assertIn(name, METHODS + OWN_METHODS + assigned)
 
     def test_is_stands_beside_none(self):
         for name, node in nodes(ast.Compare):
