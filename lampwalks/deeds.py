@@ -27,7 +27,7 @@ def _steps(land, state, word):
     return tied(_ground(land, state, word).roads, _start(state, word))
 
 
-def _is_deed(thing):
+def is_deed(thing):
     """Whether thing, which may be any value, is a pair of a deed's word and a number."""
     if not isinstance(thing, tuple) or len(thing) != 2:
         return False
@@ -36,7 +36,7 @@ def _is_deed(thing):
 
 def refusal(land, state, deed):
     """What BadDeed tells of a deed at this state: 0, 1 or 2, and None if the deed is possible."""
-    if not _is_deed(deed):
+    if not is_deed(deed):
         return 0
     word, x = deed
     if not 0 <= x < _ground(land, state, word).many:

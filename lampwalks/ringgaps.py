@@ -6,33 +6,36 @@ from lampwalks.ringlands import hung, ring_needs
 
 def ring_choices(land, a, b):
     """What the ring costs if the stretch in its order is gone once, and if the other stretch is."""
+    one, two = [[length for length, roads in parts] for parts in ring_parts(land, a, b)]
+    # the first stretch has no parts if both walkers hang at one place
+    return (sum(one) + 2 * (sum(two) - max(two)), sum(two) + 2 * (sum(one) - max(one, default=0)))
+
+
+def ring_parts(land, a, b):
+    """The two stretches of the ring, the one in its order first, each cut at the places that are needed.
+
+    A part is a pair (length, list of its roads).
+    """
     needs = ring_needs(land, a, b)
-    one, two = _stretches(ring(land), hung(land, a[0]), hung(land, b[0]))
-    one_length, one_gap = _measured(land, needs, one)
-    two_length, two_gap = _measured(land, needs, two)
-    return (one_length + 2 * (two_length - two_gap), two_length + 2 * (one_length - one_gap))
+    places = ring(land)
+    at = places.index(hung(land, a[0]))
+    around = places[at:] + places[:at + 1]
+    steps = around.index(hung(land, b[0]))
+    return (_cut(land, needs, around[:steps + 1]), _cut(land, needs, around[steps:]))
 
 
-def _stretches(places, start, end):
-    """The places of the ring from start to end in its order, and from end on to start, all with both ends."""
-    at = places.index(start)
-    around = places[at:] + places[:at]
-    steps = around.index(end)
-    return (around[:steps + 1], around[steps:] + (start,))
-
-
-def _measured(land, needs, stretch):
-    """The length of a stretch, and the greatest length on it between two of its needs that are next to one another."""
+def _cut(land, needs, stretch):
+    """The parts of a stretch that begins and ends at places that are needed."""
     lengths = {(x, y): length for x, y, length in land.roads}
+    parts = []
     whole = 0
-    gap = 0
-    free = 0
-    for x, y in zip(stretch, stretch[1:]):
-        length = lengths[(min(x, y), max(x, y))]
-        whole += length
-        free += length
-        # the ends are among the needs, so the last gap is seen
-        if y in needs:
-            gap = max(gap, free)
-            free = 0
-    return (whole, gap)
+    roads = []
+    for pair in zip(stretch, stretch[1:]):
+        x, y = sorted(pair)
+        whole += lengths[(x, y)]
+        roads.append((x, y))
+        if pair[1] in needs:
+            parts.append((whole, roads))
+            whole = 0
+            roads = []
+    return parts

@@ -242,7 +242,8 @@ def way_of(land, x, y):
 
 def on_way(land, road, x, y):
     """Whether the road with this index lies on the way from x to y."""
-    return tuple(sorted(land.roads[road][:2])) in {tuple(sorted(pair)) for pair in itertools.pairwise(way_of(land, x, y))}
+    passed = way_of(land, x, y)
+    return land.roads[road][:2] in [tuple(sorted(pair)) for pair in itertools.pairwise(passed)]
 
 
 def crossings_of(land, a, b, road):

@@ -52,9 +52,18 @@ INTERFACE = {
     "pairmeans": ("pair_mean(land)",),
     "purses": ("best(land, a, wish, worths, purse, *, back=False)",),
     "plans": ("least_for(land, a, wish, worths, need, *, back=False)",),
+    "planback": ("table(land, a, wish, worths)",),
     "ringlands": ("hung(land, x)", "ring_needs(land, a, b)"),
     "ringgaps": ("ring_choices(land, a, b)",),
     "ringprices": ("ring_best(land, a, b)",),
+    "ringruns": ("ring_run(land, a, b)",),
+    "papers": ("paper(land, a, b)", "paper_right(land, a, b, paper, price)"),
+    "landtext": ("land_text(land)", "land_of(text)"),
+    "statetext": ("state_text(land, state)", "state_of(land, text)"),
+    "runtext": ("run_text(run)", "run_of(text)"),
+    "floorasks": ("home_price(floor)", "can_go_home(floor)", "way_home(floor)", "in_reach(floor)",
+                  "best_for(floor, wish, worths)"),
+    "saysfloor": ("answer(floor, row)", "asked(floor, row)"),
 }
 
 CLASSES = {
@@ -63,7 +72,11 @@ CLASSES = {
                "BadText", "BadWord", "NothingToUndo", "NothingToRedo"),
     "webs": ("Web",),
     "lands": ("Land",),
+    "floor": ("Floor",),
 }
+
+METHODS = ("__init__(self, land, state, purse)", "go(self, y)", "turn(self, q)", "earn(self, k)", "mark(self)",
+           "undo(self)", "redo(self)", "state(self)", "purse(self)", "marked(self)", "spent(self)", "record(self)")
 
 
 class InterfaceTest(unittest.TestCase):
@@ -85,3 +98,11 @@ class InterfaceTest(unittest.TestCase):
                 with self.subTest(row):
                     self.assertTrue(inspect.isclass(kind))
                     self.assertEqual(kind.__module__, module.__name__)
+
+    def test_methods_of_the_floor(self):
+        own = vars(importlib.import_module("lampwalks.floor").Floor)
+        for row in METHODS:
+            function = own[row.partition("(")[0]]
+            with self.subTest(row):
+                self.assertTrue(inspect.isfunction(function))
+                self.assertEqual(function.__name__ + str(inspect.signature(function)), row)

@@ -19,17 +19,18 @@ BUILTINS = (
     "len range enumerate zip min max sum abs sorted reversed int str bool list tuple dict set isinstance ord repr any "
     "all divmod Exception ValueError TypeError KeyError IndexError LookupError ZeroDivisionError").split()
 METHODS = (
-    "append clear copy count endswith extend find get index insert isalnum isalpha isascii isdigit islower isspace isupper "
-    "items join keys ljust lower lstrip partition pop remove replace reverse rfind rjust rpartition rsplit rstrip "
-    "setdefault split splitlines startswith strip update upper values zfill bit_length add discard").split()
+    "append clear copy count endswith extend find get index insert isalnum isalpha isascii isdigit islower isspace "
+    "isupper items join keys ljust lower lstrip partition pop remove replace reverse rfind rjust rpartition rsplit "
+    "rstrip setdefault split splitlines startswith strip update upper values zfill bit_length add discard").split()
 OWN_METHODS = [item.name for tree in TREES.values() for node in tree.body if isinstance(node, ast.ClassDef)
                for item in node.body if isinstance(item, ast.FunctionDef)]
 NODES = (
     "Module Expr Constant ImportFrom alias Assign AugAssign FunctionDef arguments arg ClassDef Return If While For "
     "Break Continue Pass Raise Assert Delete Try ExceptHandler Name Attribute Subscript Slice Call keyword Starred "
     "List Tuple Dict Set ListComp DictComp SetComp comprehension BinOp UnaryOp BoolOp Compare IfExp Lambda Load Store "
-    "JoinedStr FormattedValue Del Add Sub Mult FloorDiv Mod Pow BitAnd BitOr BitXor LShift RShift USub UAdd Invert Not And Or Eq NotEq Lt LtE "
-    "Gt GtE Is IsNot In NotIn").split()
+    "JoinedStr FormattedValue "
+    "Del Add Sub Mult FloorDiv Mod Pow BitAnd BitOr BitXor LShift RShift USub UAdd Invert Not And Or "
+    "Eq NotEq Lt LtE Gt GtE Is IsNot In NotIn").split()
 WORDS = ("register mro elements open input law version_info with_traceback add_note typing enum Enum namedtuple "
          "dataclass overload contextmanager _wall _WallAttr _cold _outside _record _written_out "
          "_member_names").split()

@@ -102,8 +102,8 @@ class BestTest(Case):
 
 class LeastForTest(Case):
     def test_of_the_land_of_the_document(self):
-        for need, wanted in ((-FAR, (0, 0, ())), (-1, (0, 0, ())), (0, (0, 0, ())), (1, (2, 5, (1,))), (5, (2, 5, (1,))),
-                             (6, (5, 10, (1, 2))), (10, (5, 10, (1, 2))), (11, (8, 15, (1, 2, 3))),
+        for need, wanted in ((-FAR, (0, 0, ())), (-1, (0, 0, ())), (0, (0, 0, ())), (1, (2, 5, (1,))),
+                             (5, (2, 5, (1,))), (6, (5, 10, (1, 2))), (10, (5, 10, (1, 2))), (11, (8, 15, (1, 2, 3))),
                              (15, (8, 15, (1, 2, 3))), (16, None), (FAR, None)):
             self.same(least_for(STAR, A, WISH, WORTHS, need), wanted)
         self.same(least_for(STAR, A, WISH, WORTHS, 6, back=True), (6, 10, (1, 2)))

@@ -23,6 +23,11 @@ def shares_of(crossings):
     return tuple((times, (part.numerator, part.denominator)) for times, part in parts)
 
 
+def all_three(*parts):
+    """The pairs of 0, 1 and 2 with these shares."""
+    return tuple((times, (part.numerator, part.denominator)) for times, part in enumerate(parts))
+
+
 class RoadSharesTest(Case):
     def test_of_the_document(self):
         self.same(road_shares(TWO, (0, (0, 0)), 0), ((0, (1, 4)), (1, (1, 2)), (2, (1, 4))))
@@ -53,8 +58,7 @@ class RoadSharesTest(Case):
             # n positions of all lamps beyond, which are 9 - road places
             zero = fractions.Fraction(road + 1, 10 * n)
             twice = fractions.Fraction(road + 1, 10) - zero
-            once = fractions.Fraction(9 - road, 10)
-            wanted = tuple((times, (part.numerator, part.denominator)) for times, part in enumerate((zero, once, twice)))
+            wanted = all_three(zero, fractions.Fraction(9 - road, 10), twice)
             self.same(self.quick(1, road_shares, LONG, (0, ZERO), road), wanted)
         self.quick(1, road_shares, BUSHY, (3, (4,) * 10), 5)
 
@@ -80,10 +84,9 @@ class PairSharesTest(Case):
     def test_quick_with_ten_places(self):
         # each road of the star has one place on one side
         zero = fractions.Fraction(81, 100 * 6) + fractions.Fraction(1, 100 * 6 ** 9)
-        twice = 1 - zero - fractions.Fraction(18, 100)
+        once = fractions.Fraction(18, 100)
         for road in range(9):
-            self.same(self.quick(1, pair_shares, WIDE, road),
-                      ((0, (zero.numerator, zero.denominator)), (1, (9, 50)), (2, (twice.numerator, twice.denominator))))
+            self.same(self.quick(1, pair_shares, WIDE, road), all_three(zero, once, 1 - zero - once))
 
 
 class ErrorsTest(Case):
