@@ -53,7 +53,7 @@ def _roads_right(land, a, b, roads):
 
 
 def _road_right(land, a, b, road, entry):
-    """Whether entry, which may be any value, is 0, or parts what it says and is a pair of numbers."""
+    """Whether entry, which may be any value, is one that the road may have."""
     if is_number(entry):
         return entry == 0
     if not isinstance(entry, tuple) or len(entry) != 2 or not all([is_number(part) for part in entry]):

@@ -4,8 +4,8 @@ from lampwalks.errors import BadDeed, BadPlace, BadPurse, BadState, Dear, Nothin
 from lampwalks.floor import Floor
 from lampwalks.lands import made_land
 from lampwalks.webmakers import line_web, pair_web
-from tests.floors import FloorCase, begun, some_deed, told
-from tests.helpers import LINE, RINGED, RINGED_ROADS, SPOT, THREE, some_lands, some_state
+from tests.helpers import (
+    LINE, RINGED, RINGED_ROADS, SPOT, THREE, FloorCase, begun, some_deed, some_lands, some_state, told)
 
 FAR = 10 ** 30
 START = (1, (0, 0, 0))

@@ -5,10 +5,9 @@ from lampwalks.floor import Floor
 from lampwalks.floorasks import best_for, can_go_home, home_price, in_reach, way_home
 from lampwalks.leastruns import least_run
 from lampwalks.purses import best
-from tests.floors import FloorCase, begun, some_deed, told
 from tests.helpers import (
-    BUSHY, FOUR, LINE, LONG, SMALL_WEBS, SPOT, STAR, THREE, least_costs, led, small_trees, some_lands, some_state,
-    steps_from)
+    BUSHY, FOUR, LINE, LONG, SMALL_WEBS, SPOT, STAR, THREE, FloorCase, begun, least_costs, led, small_trees, some_deed,
+    some_lands, some_state, steps_from, told)
 
 START = (1, (0, 0, 0))
 

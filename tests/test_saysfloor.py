@@ -3,8 +3,8 @@ import random
 from lampwalks.errors import BadDeed, BadPurse, BadWord, Dear, NothingToRedo, NothingToUndo, TooMany
 from lampwalks.floor import Floor
 from lampwalks.saysfloor import answer, asked
-from tests.floors import FloorCase, begun, some_deed, told
-from tests.helpers import FOUR, LINE, LONG, SMALL_WEBS, SPOT, THREE, least_costs, some_lands, some_state
+from tests.helpers import (
+    FOUR, LINE, LONG, SMALL_WEBS, SPOT, THREE, FloorCase, begun, least_costs, some_deed, some_lands, some_state, told)
 
 START = (1, (0, 0, 0))
 
